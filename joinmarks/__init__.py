@@ -1,0 +1,1 @@
+"""Joinmarks: rows whose names are written once, joined where ways meet, and turned back."""
