@@ -13,6 +13,11 @@ PARTS = {
     "stop": (),
 }
 
+# What stands in a shortened form for a row left out; no row that is handed in may be one.
+PASS = ("pass",)
+
+BEGINNING = -1
+
 LONGEST_NAME = 8
 
 
@@ -73,14 +78,27 @@ def refuse_wrong(rows):
             raise BadPlace(f"the goal of the row at place {place} is no place")
 
 
-def name_written(row):
-    """Tell the name that the row writes, or None."""
-    if "name" in PARTS[row[0]]:
+def what_is_written(row):
+    """Tell the name, or in a form the mark, that the row writes, or None."""
+    if "name" in PARTS.get(row[0], ()):
         return row[1]
     return None
 
 
-def names_read(row):
-    """Tell the names that the row reads, one that is read twice twice."""
-    parts = PARTS[row[0]]
-    return [told for part, told in zip(parts, row[1:]) if part == "operand" and is_name(told)]
+def what_is_read(row):
+    """Tell the names, or in a form the marks, that the row reads, one that is read twice twice."""
+    parts = PARTS.get(row[0], ())
+    return [told for part, told in zip(parts, row[1:]) if part == "operand" and not is_number(told)]
+
+
+def put_in(row, target, things):
+    """Tell the row with this target to write, if it writes, and with what things tells for what it reads."""
+    told = [row[0]]
+    for part, thing in zip(PARTS.get(row[0], ()), row[1:]):
+        if part == "name":
+            told.append(target)
+        elif part == "operand":
+            told.append(things.get(thing, thing))
+        else:
+            told.append(thing)
+    return tuple(told)

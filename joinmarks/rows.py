@@ -13,38 +13,32 @@ def run(rows, values, most):
     while place < len(rows):
         if done >= most:
             return said, "tired", done
-        _do_row(rows[place], held, said)
-        place = _place_behind(rows, place, held)
+        do_row(rows[place], held, said)
+        place = place_behind(rows, place, held)
         done += 1
     return said, "end", done
 
 
-def worked_out(word, first, second):
-    """Tell what a row with this word makes of two numbers."""
-    if word == "add":
-        return first + second
-    if word == "sub":
-        return first - second
-    return 1 if first < second else 0
+def worth(operand, held):
+    """Tell what a number, a name or a mark is, where this is held."""
+    if isinstance(operand, int):
+        return operand
+    return held.get(operand, 0)
 
 
-def _worth(operand, held):
-    if isinstance(operand, str):
-        return held.get(operand, 0)
-    return operand
-
-
-def _do_row(row, held, said):
+def do_row(row, held, said):
+    """Write what the row writes into what is held, or say what it says."""
     word = row[0]
     if word == "say":
-        said.append(_worth(row[1], held))
+        said.append(worth(row[1], held))
     elif word == "set":
-        held[row[1]] = _worth(row[2], held)
+        held[row[1]] = worth(row[2], held)
     elif word in ("add", "sub", "less"):
-        held[row[1]] = worked_out(word, _worth(row[2], held), _worth(row[3], held))
+        held[row[1]] = _worked_out(word, worth(row[2], held), worth(row[3], held))
 
 
-def _place_behind(rows, place, held):
+def place_behind(rows, place, held):
+    """Tell the place that comes next behind the row there, which has been done."""
     # Rows that choose where to go on write nothing, so asking behind the row is right.
     row = rows[place]
     word = row[0]
@@ -52,6 +46,14 @@ def _place_behind(rows, place, held):
         return len(rows)
     if word == "jump":
         return row[1]
-    if word == "nought" and _worth(row[1], held) == 0:
+    if word == "nought" and worth(row[1], held) == 0:
         return row[2]
     return place + 1
+
+
+def _worked_out(word, first, second):
+    if word == "add":
+        return first + second
+    if word == "sub":
+        return first - second
+    return 1 if first < second else 0

@@ -1,26 +1,25 @@
 """The ways through rows: where they come to, and which names they want."""
 
-from joinmarks.parts import name_written, names_read, refuse_wrong
+from joinmarks.parts import BEGINNING, refuse_wrong, what_is_read, what_is_written
 
 
 def reached(rows):
     """Tell the reached places, rising."""
     refuse_wrong(rows)
-    return _reached_places(rows)
+    return sorted(places_found(rows))
 
 
 def comers(rows):
     """Tell for each place the reached places from which it can be come to, rising."""
     refuse_wrong(rows)
-    return _comers_to(rows, _reached_places(rows))
+    return comers_to(rows)
 
 
 def names_wanted(rows):
     """Tell for each place the names that are wanted there, rising."""
     refuse_wrong(rows)
-    places = _reached_places(rows)
-    came = _comers_to(rows, places)
-    readers = _readers(rows, places)
+    came = comers_to(rows)
+    readers = _readers(rows)
     wanted = [[] for _ in came]
     for name in sorted(readers):
         for place in _places_wanting(rows, came, name, readers[name]):
@@ -31,6 +30,8 @@ def names_wanted(rows):
 def next_places(rows, place):
     """Tell the places that can come next, each once; none behind the end."""
     end = len(rows)
+    if place == BEGINNING:
+        return [0]
     if place == end:
         return []
     row = rows[place]
@@ -44,32 +45,35 @@ def next_places(rows, place):
     return [place + 1]
 
 
-def _reached_places(rows):
-    found = {0}
+def places_found(rows):
+    """Tell the reached places of rows or of a form's rows; what all ways to a place come by stands ahead of it."""
+    found = [0]
+    known = {0}
     waiting = [0]
     while waiting:
         place = waiting.pop()
         for after in next_places(rows, place):
-            if after not in found:
-                found.add(after)
+            if after not in known:
+                known.add(after)
+                found.append(after)
                 waiting.append(after)
-    return sorted(found)
+    return found
 
 
-def _comers_to(rows, places):
+def comers_to(rows):
+    """Tell what comers tells, of rows that have been looked at or of a form's rows."""
     came = [[] for _ in range(len(rows) + 1)]
-    came[0].append(-1)
-    for place in places:
+    for place in [BEGINNING] + sorted(places_found(rows)):
         for after in next_places(rows, place):
             came[after].append(place)
     return came
 
 
-def _readers(rows, places):
+def _readers(rows):
     readers = {}
-    for place in places:
+    for place in sorted(places_found(rows)):
         if place < len(rows):
-            for name in names_read(rows[place]):
+            for name in what_is_read(rows[place]):
                 readers.setdefault(name, []).append(place)
     return readers
 
@@ -82,7 +86,7 @@ def _places_wanting(rows, came, name, readers):
     while waiting:
         place = waiting.pop()
         for comer in came[place]:
-            if comer == -1 or comer in wanting or name_written(rows[comer]) == name:
+            if comer == BEGINNING or comer in wanting or what_is_written(rows[comer]) == name:
                 continue
             wanting.add(comer)
             waiting.append(comer)

@@ -9,6 +9,10 @@ PACKAGE = pathlib.Path(__file__).resolve().parent.parent / "joinmarks"
 FUNCTIONS = {
     "rows.py": {"run": ["rows", "values", "most"]},
     "ways.py": {"reached": ["rows"], "comers": ["rows"], "names_wanted": ["rows"]},
+    "once.py": {"made": ["rows"]},
+    "running.py": {"run_once": ["once", "values", "most"], "meeting": ["once", "place", "name"]},
+    "short.py": {"shortened": ["once"]},
+    "back.py": {"names_by": ["once"], "turned_back": ["once"]},
 }
 
 CLASSES = {
@@ -19,7 +23,10 @@ CLASSES = {
         "BadPlace": "RowError",
         "NoJoin": "RowError",
     },
+    "once.py": {"Once": None},
 }
+
+METHODS = {"row": ["self", "place"], "joins": ["self", "place"], "wanted": ["self", "place"]}
 
 
 def sources():
@@ -46,11 +53,38 @@ class Interface(unittest.TestCase):
     def test_classes_stand_in_their_files(self):
         for name, listed in CLASSES.items():
             found = {
-                node.name: ast.unparse(node.bases[0])
+                node.name: ast.unparse(node.bases[0]) if node.bases else None
                 for node in top_of(name)
                 if isinstance(node, ast.ClassDef)
             }
             self.assertEqual(found, listed)
+
+    def test_methods_stand_in_their_class(self):
+        form = [node for node in top_of("once.py") if isinstance(node, ast.ClassDef)][0]
+        found = {
+            node.name: [arg.arg for arg in node.args.args]
+            for node in form.body
+            if isinstance(node, ast.FunctionDef) and node.name in METHODS
+        }
+        self.assertEqual(found, METHODS)
+
+
+class Readme(unittest.TestCase):
+    def test_the_examples_tell_what_they_say(self):
+        blocks = (PACKAGE.parent / "README.md").read_text("utf-8").split("```python\n")[1:]
+        many = 0
+        for block in blocks:
+            names = {}
+            code = block.partition("```")[0]
+            for node in ast.parse(code).body:
+                line = code.splitlines()[node.end_lineno - 1]
+                if isinstance(node, ast.Expr):
+                    many += 1
+                    told = eval(ast.get_source_segment(code, node), names)
+                    self.assertEqual(told, ast.literal_eval(line.partition("# ")[2]), line)
+                else:
+                    exec(ast.get_source_segment(code, node), names)
+        self.assertEqual(many, 16)
 
 
 class Limits(unittest.TestCase):

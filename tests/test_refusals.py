@@ -1,9 +1,10 @@
-"""Points 1 and 4: what is refused, with which class, and what is not."""
+"""Points 1 and 4: which rows are refused, with which class, and which are not."""
 
 import copy
 import unittest
 
 from joinmarks.errors import BadPlace, BadRow, NoJoin, RowError, TooMany
+from joinmarks.once import made
 from joinmarks.rows import run
 from joinmarks.ways import comers, names_wanted, reached
 
@@ -15,6 +16,7 @@ ASKERS = {
     "reached": reached,
     "comers": comers,
     "names_wanted": names_wanted,
+    "made": made,
 }
 
 
@@ -54,8 +56,9 @@ class Refusals(unittest.TestCase):
                 str(caught.exception)
 
     def taken(self, rows):
-        for ask in ASKERS.values():
-            ask(rows)
+        for who, ask in ASKERS.items():
+            if who != "made" or len(rows) <= 60:
+                ask(rows)
 
     def test_each_class_is_a_row_error_and_no_other_ones(self):
         self.assertTrue(issubclass(RowError, ValueError))
@@ -161,6 +164,14 @@ class Refusals(unittest.TestCase):
     def test_many_good_rows_are_taken(self):
         for many in (0, 1, 59, 60, 61, 300):
             self.taken([("say", 1)] * many)
+
+    def test_a_form_of_too_many_rows_is_refused_by_its_rows_first(self):
+        for many in (61, 100):
+            self.assertRaises(TooMany, made, [("say", 1)] * many)
+            self.refused([("say", 1)] * many + [("say",)], BadRow)
+            self.refused([("say", 1)] * many + [("jump", many + 2)], BadPlace)
+            self.refused([("jump", -1)] * many, BadPlace)
+            self.refused((("say", 1),) * many, BadRow)
 
     def test_refused_rows_stay_as_they_were(self):
         for rows in ([("say", 1), ["say"]], [("say", 1), ("jump", [7])], {"a": [1]}):

@@ -6,6 +6,7 @@ import random
 import unittest
 
 from joinmarks.ways import comers, names_wanted, reached
+from slow import drawn, follow, leads_to, wants
 
 COUNTDOWN = [("nought", "n", 4), ("say", "n"), ("sub", "n", "n", 1), ("jump", 0)]
 
@@ -151,66 +152,11 @@ class NamesWanted(unittest.TestCase):
         self.assertEqual(names_wanted(rows)[0], sorted(names))
 
 
-def follow(rows, place):
-    row = rows[place]
-    if row[0] == "jump":
-        return [row[1]]
-    if row[0] == "stop":
-        return [len(rows)]
-    return [place + 1] + ([row[2]] if row[0] == "nought" else [])
-
-
-def wants(rows, place, name):
-    """Point 7 read forwards: walk on from the place until a row reads or writes the name."""
-    seen, open_places = set(), [place]
-    while open_places:
-        at = open_places.pop()
-        if at in seen or at == len(rows):
-            continue
-        seen.add(at)
-        row = rows[at]
-        writes = row[0] in ("set", "add", "sub", "less")
-        reads = row[2:] if writes else row[1:2] if row[0] in ("say", "nought") else ()
-        if name in reads:
-            return True
-        if not (writes and row[1] == name):
-            open_places.extend(follow(rows, at))
-    return False
-
-
-def leads_to(rows):
-    """Point 6, again and again until nothing is new."""
-    places = {0}
-    while True:
-        more = places.union(*[follow(rows, place) for place in places if place < len(rows)])
-        if more == places:
-            return sorted(places)
-        places = more
-
-
-def some_rows(chance):
-    end = chance.randint(0, 9)
-    names = ["a", "b", "c"][:chance.randint(1, 3)]
-    operands = names + [0, 1]
-    rows = []
-    for _ in range(end):
-        word = chance.choice(["set", "add", "sub", "less", "say", "jump", "nought", "nought", "stop"])
-        one, two = chance.choice(operands), chance.choice(operands)
-        rows.append({
-            "set": ("set", chance.choice(names), one),
-            "say": ("say", one),
-            "jump": ("jump", chance.randint(0, end)),
-            "nought": ("nought", one, chance.randint(0, end)),
-            "stop": ("stop",),
-        }.get(word, (word, chance.choice(names), one, two)))
-    return rows
-
-
 class ManyRows(unittest.TestCase):
     def test_all_against_a_slow_reading_of_the_document(self):
         chance = random.Random(20)
         for _ in range(1500):
-            rows = some_rows(chance)
+            rows = drawn(chance)
             places = leads_to(rows)
             ends = range(len(rows) + 1)
             with self.subTest(rows=rows):
