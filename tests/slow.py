@@ -1,8 +1,20 @@
-"""Rows drawn for the tests, and slow readings of the document to hold the program against."""
+"""What several tests need: rows drawn by chance, and slow readings of the document to hold the program against."""
 
 import itertools
 
 WRITERS = ("set", "add", "sub", "less")
+
+
+class Alike:
+    """What says that it is the same as anything, and cannot be hashed or shown."""
+
+    __hash__ = None
+
+    def __eq__(self, other):
+        return True
+
+    def __repr__(self):
+        raise RuntimeError("not to be shown")
 
 
 def drawn(chance, most=9, names="abc", numbers=(0, 1), least=0):

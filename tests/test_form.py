@@ -7,7 +7,7 @@ import unittest
 from joinmarks.errors import BadPlace, RowError, TooMany
 from joinmarks.once import Once, made
 from joinmarks.ways import names_wanted
-from slow import Plain, come_from, drawn, joined, leads_to, loops
+from slow import Alike, Plain, come_from, drawn, joined, leads_to, loops
 
 COUNTDOWN = [("nought", "n", 4), ("say", "n"), ("sub", "n", "n", 1), ("jump", 0)]
 
@@ -238,18 +238,6 @@ class Wanted(unittest.TestCase):
                     self.assertEqual(wanted, sorted(mark for mark in form.asked if reached and form.reads_on(place, mark)))
                 # In a form that made gives, just one mark is wanted for each name that is.
                 self.assertEqual([[mark[0] for mark in marks] for marks in form.wanted], names_wanted(rows))
-
-
-class Alike:
-    """What says that it is the same as anything, and cannot be hashed or shown."""
-
-    __hash__ = None
-
-    def __eq__(self, other):
-        return True
-
-    def __repr__(self):
-        raise RuntimeError("not to be shown")
 
 
 NO_PLACES = [

@@ -7,6 +7,7 @@ from joinmarks.errors import BadPlace, BadRow, NoJoin, RowError, TooMany
 from joinmarks.once import made
 from joinmarks.rows import run
 from joinmarks.ways import comers, names_wanted, reached
+from slow import Alike
 
 CLASSES = (TooMany, BadRow, BadPlace, NoJoin)
 
@@ -18,18 +19,6 @@ ASKERS = {
     "names_wanted": names_wanted,
     "made": made,
 }
-
-
-class Alike:
-    """What says that it is the same as anything, and cannot be hashed or shown."""
-
-    __hash__ = None
-
-    def __eq__(self, other):
-        return True
-
-    def __repr__(self):
-        raise RuntimeError("not to be shown")
 
 
 NO_NAMES = [

@@ -8,8 +8,8 @@ from joinmarks.errors import BadPlace, NoJoin, RowError
 from joinmarks.once import made
 from joinmarks.rows import run
 from joinmarks.running import meeting, run_once
-from slow import Plain, beginnings, drawn, follow, leads_to, loops, writes
-from test_form import DIAMOND, NO_PLACES, Alike
+from slow import Alike, Plain, beginnings, drawn, follow, leads_to, loops, writes
+from test_form import DIAMOND, NO_PLACES
 
 COUNTDOWN = [("nought", "n", 4), ("say", "n"), ("sub", "n", "n", 1), ("jump", 0)]
 
