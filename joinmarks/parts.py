@@ -20,15 +20,18 @@ BEGINNING = -1
 
 LONGEST_NAME = 8
 
+# What a thing is, its class alone tells. isinstance would believe what a thing only says of itself, and
+# would take classes under the one meant, whose things may not be compared, counted or hashed as plain ones are.
+
 
 def is_number(thing):
     """Tell whether it is a whole number; True and False are none."""
-    return isinstance(thing, int) and not isinstance(thing, bool)
+    return type(thing) is int
 
 
 def is_name(thing):
     """Tell whether it is a text of 1 to 8 signs from a to z."""
-    if not isinstance(thing, str) or not 1 <= len(thing) <= LONGEST_NAME:
+    if type(thing) is not str or not 1 <= len(thing) <= LONGEST_NAME:
         return False
     return all(["a" <= sign <= "z" for sign in thing])
 
@@ -49,11 +52,11 @@ def _fits(thing, part):
 
 def is_row(thing):
     """Tell whether it is a row, whatever its goal is."""
-    if not isinstance(thing, tuple) or len(thing) == 0:
+    if type(thing) is not tuple or len(thing) == 0:
         return False
     word = thing[0]
     # Only a text is looked up: what cannot be hashed would fail there.
-    if not isinstance(word, str) or word not in PARTS:
+    if type(word) is not str or word not in PARTS:
         return False
     parts = PARTS[word]
     if len(thing) != len(parts) + 1:
@@ -68,7 +71,7 @@ def has_goal(row):
 
 def refuse_wrong(rows):
     """Refuse what is no list, then the first row that is none or has a wrong goal."""
-    if not isinstance(rows, list):
+    if type(rows) is not list:
         raise BadRow("the rows are no list")
     # The messages don't show what was handed in: showing it could fail, too.
     for place, row in enumerate(rows):

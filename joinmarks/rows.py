@@ -1,6 +1,6 @@
 """Rows, done one behind the other."""
 
-from joinmarks.parts import refuse_wrong
+from joinmarks.parts import is_number, refuse_wrong
 
 
 def run(rows, values, most):
@@ -21,7 +21,7 @@ def run(rows, values, most):
 
 def worth(operand, held):
     """Tell what a number, a name or a mark is, where this is held."""
-    if isinstance(operand, int):
+    if is_number(operand):
         return operand
     return held.get(operand, 0)
 

@@ -17,6 +17,34 @@ class Alike:
         raise RuntimeError("not to be shown")
 
 
+class LikeAnyClass(type):
+    """A class that says that it is the same as any other one."""
+
+    __hash__ = type.__hash__
+
+    def __eq__(self, other):
+        return True
+
+    def __ne__(self, other):
+        return False
+
+
+def saying(kind):
+    """What says that it is of this kind, and is not."""
+    return type("Saying", (), {"__class__": kind})()
+
+
+def insisting(kind):
+    """What says that it is of this kind, and whose class says that it is this very kind; neither is so."""
+    parts = {"__class__": kind, "__len__": lambda self: 1, "__le__": lambda *_: True, "__eq__": lambda *_: True}
+    return LikeAnyClass(kind.__name__, (), parts)()
+
+
+def under(kind, *told):
+    """What is of a class under this kind, plainly, and one that can't be hashed."""
+    return [type("Under", (kind,), parts)(*told) for parts in ({}, {"__hash__": None})]
+
+
 def drawn(chance, most=9, names="abc", numbers=(0, 1), least=0):
     """Some rows, over a few of the names, with jumps and noughts to everywhere."""
     end = chance.randint(least, most)

@@ -7,7 +7,7 @@ import unittest
 from joinmarks.errors import BadPlace, RowError, TooMany
 from joinmarks.once import Once, made
 from joinmarks.ways import names_wanted
-from slow import Alike, Plain, come_from, drawn, joined, leads_to, loops
+from slow import Alike, Plain, come_from, drawn, insisting, joined, leads_to, loops, saying, under
 
 COUNTDOWN = [("nought", "n", 4), ("say", "n"), ("sub", "n", "n", 1), ("jump", 0)]
 
@@ -243,6 +243,7 @@ class Wanted(unittest.TestCase):
 NO_PLACES = [
     -1, -2, 6, 10 ** 30, -(10 ** 30), True, False, None, "", "a", "0", b"0", 0.0, 1.0, float("nan"), 1j, (), (0,),
     ("a", 0), [], [0], {}, {0: 0}, {0}, range(1), object(), Alike(), int, len,
+    saying(int), saying(bool), insisting(int), *under(int, 0), *under(int, 1),
 ]
 
 

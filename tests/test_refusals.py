@@ -1,13 +1,16 @@
 """Points 1 and 4: which rows are refused, with which class, and which are not."""
 
+import collections
 import copy
+import enum
 import unittest
+import unittest.mock
 
 from joinmarks.errors import BadPlace, BadRow, NoJoin, RowError, TooMany
 from joinmarks.once import made
 from joinmarks.rows import run
 from joinmarks.ways import comers, names_wanted, reached
-from slow import Alike
+from slow import Alike, insisting, saying, under
 
 CLASSES = (TooMany, BadRow, BadPlace, NoJoin)
 
@@ -33,6 +36,16 @@ NO_PLACES = [
 ]
 
 GOOD = [("nought", "a", 3), ("say", 1), ("jump", 0)]
+
+
+class Small(enum.IntEnum):
+    NOUGHT = 0
+    ONE = 1
+
+
+def stand_ins(kind):
+    """What says that it is of this kind, in several ways, and is not."""
+    return [saying(kind), insisting(kind), unittest.mock.Mock(spec=kind), unittest.mock.MagicMock(spec=kind)]
 
 
 class Refusals(unittest.TestCase):
@@ -161,6 +174,73 @@ class Refusals(unittest.TestCase):
             self.refused([("say", 1)] * many + [("jump", many + 2)], BadPlace)
             self.refused([("jump", -1)] * many, BadPlace)
             self.refused((("say", 1),) * many, BadRow)
+
+    def test_what_only_says_that_it_is_a_list(self):
+        for rows in stand_ins(list):
+            self.refused(rows, BadRow)
+
+    def test_what_only_says_that_it_is_a_row(self):
+        for row in stand_ins(tuple):
+            self.refused([row], BadRow)
+            self.refused([("stop",), row, ("jump", 9)], BadRow)
+
+    def test_what_only_says_that_it_is_a_text(self):
+        for thing in stand_ins(str):
+            for behind in ((), (1,), (0,), ("a", 1), ("a", 1, 2)):
+                self.refused([(thing,) + behind], BadRow)
+            self.refused([("set", thing, 1)], BadRow)
+            self.refused([("less", thing, 1, 2)], BadRow)
+
+    def test_what_only_says_that_it_is_an_operand(self):
+        for thing in stand_ins(str) + stand_ins(int) + stand_ins(bool):
+            self.refused([("say", thing)], BadRow)
+            self.refused([("set", "a", thing)], BadRow)
+            self.refused([("nought", thing, 0)], BadRow)
+            for word in ("add", "sub", "less"):
+                self.refused([(word, "a", thing, 1)], BadRow)
+                self.refused([(word, "a", 1, thing)], BadRow)
+
+    def test_what_only_says_that_it_is_a_goal(self):
+        for goal in stand_ins(int) + stand_ins(bool):
+            self.refused([("jump", goal)], BadPlace)
+            self.refused([("say", 1), ("nought", "a", goal)], BadPlace)
+
+    def test_rows_of_a_class_under_list(self):
+        for rows in under(list) + under(list, GOOD):
+            self.refused(rows, BadRow)
+
+    def test_a_row_of_a_class_under_tuple(self):
+        named = collections.namedtuple("Say", ["word", "operand"])
+        for row in under(tuple, ("stop",)) + under(tuple, ("say", 1)) + under(tuple) + [named("say", 1)]:
+            self.refused([row], BadRow)
+            self.refused([("say", 1), row], BadRow)
+
+    def test_a_first_thing_of_a_class_under_text(self):
+        for text in ("stop", "say", "jump", "zzz", "", "pass"):
+            for first in under(str, text):
+                for behind in ((), (1,), (0,), ("a", 1), ("a", 1, 2)):
+                    self.refused([(first,) + behind], BadRow)
+
+    def test_a_name_of_a_class_under_text(self):
+        for name in under(str, "a"):
+            self.refused([("set", name, 1), ("say", "a")], BadRow)
+            self.refused([("say", name)], BadRow)
+            self.refused([("nought", name, 0)], BadRow)
+            for word in ("add", "sub", "less"):
+                self.refused([(word, name, 1, 2)], BadRow)
+                self.refused([(word, "a", name, 2)], BadRow)
+                self.refused([(word, "a", 1, name)], BadRow)
+
+    def test_a_number_of_a_class_under_int(self):
+        for number in under(int, 0) + under(int, 1) + [Small.NOUGHT, Small.ONE]:
+            self.refused([("say", number)], BadRow)
+            self.refused([("set", "a", number), ("say", "a")], BadRow)
+            self.refused([("nought", number, 0)], BadRow)
+            for word in ("add", "sub", "less"):
+                self.refused([(word, "a", number, 2)], BadRow)
+                self.refused([(word, "a", 1, number)], BadRow)
+            self.refused([("jump", number)], BadPlace)
+            self.refused([("nought", "a", number)], BadPlace)
 
     def test_refused_rows_stay_as_they_were(self):
         for rows in ([("say", 1), ["say"]], [("say", 1), ("jump", [7])], {"a": [1]}):

@@ -8,7 +8,7 @@ from joinmarks.errors import BadPlace, NoJoin, RowError
 from joinmarks.once import made
 from joinmarks.rows import run
 from joinmarks.running import meeting, run_once
-from slow import Alike, Plain, beginnings, drawn, follow, leads_to, loops, writes
+from slow import Alike, Plain, beginnings, drawn, follow, insisting, leads_to, loops, saying, under, writes
 from test_form import DIAMOND, NO_PLACES
 
 COUNTDOWN = [("nought", "n", 4), ("say", "n"), ("sub", "n", "n", 1), ("jump", 0)]
@@ -199,7 +199,7 @@ class Refusals(unittest.TestCase):
     def test_what_is_no_name(self):
         once = made(DIAMOND)
         for name in ("", "X", "x ", "xxxxxxxxx", b"x", 0, 1, True, None, 1.5, ("x",), ("x", 3), ["x"], {"x": 1}, {"x"},
-                     object(), Alike(), str):
+                     object(), Alike(), str, saying(str), insisting(str), *under(str, "x")):
             self.refused(NoJoin, once, 4, name)
 
 
